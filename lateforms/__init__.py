@@ -1,0 +1,1 @@
+"""Objects whose classes change while they are in use."""
