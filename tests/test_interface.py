@@ -1,0 +1,92 @@
+import importlib
+import inspect
+import unittest
+
+from lateforms.conversions import RenamedWith
+from lateforms.terms import Condition, Term
+
+FUNCTIONS = {
+    "kinds": ("is_name(thing)", "is_kind(thing)", "is_form(thing)", "is_schema(thing)"),
+    "expressions": ("fits(schema, cls, kind, thing)", "lets_expression(schema, cls, kind, thing)", "parts_of(expression)"),
+    "plainchecker": ("is_plain(thing)", "lets_plain(thing)"),
+    "reading": ("objects_of(plain, cls)", "follow(plain, number, *path)", "number_at(plain, number, expression)",
+                "link_at(plain, number, expression)", "holds_at(plain, number, condition)",
+                "reads_of(plain, number, expression)"),
+    "texts": ("expression_text(expression)", "kind_text(kind)", "form_text(form)"),
+    "readings": ("read_expression(text, due, *, row=0, field=0)", "read_kind(text, *, row=0, field=0)",
+                 "read_form(text, *, row=0, field=0)"),
+    "changes": ("is_change(schema, thing)", "lets_change(schema, thing)", "schema_after(schema, change)",
+                "changed(plain, thing)"),
+    "plainsteps": ("made(plain, cls, *values)", "written(plain, number, field, value)", "dropped(plain, number)",
+                   "plain_step(plain, step)"),
+    "conversions": ("change_of(**rows)",),
+    "joining": ("prefixed(expression, *path)", "joined(schema, change, other)"),
+    "changereads": ("read_fields(schema, change)", "unread_fields(schema, change)"),
+}
+
+CLASSES = {
+    "terms": {
+        "Term(expression)": ("by_path(*path, default=0)", "total(cls, link, field)", "least(self, *others)",
+                             "most(self, *others)", "less(self, other)", "equals(self, other)",
+                             "chosen(self, condition, other)"),
+        "Condition(expression)": ("none(*path)", "both(self, *others)", "inverted(self)"),
+    },
+    "conversions": {
+        "Kept(form)": (), "Renamed(form, *, old, new)": (), "Without(form, *, field)": (),
+        "With(form, *, field, kind, expression)": (), "RenamedWith(form, *, old, new, field, kind, expression)": (),
+    },
+}
+
+
+def written(name, thing):
+    return f"{name}{inspect.signature(thing)}"
+
+
+class TestInterface(unittest.TestCase):
+    """The names, arguments and files of the interface; [2]: generators and arguments."""
+
+    def test_functions(self):
+        for name, signatures in FUNCTIONS.items():
+            module = importlib.import_module("lateforms." + name)
+            for signature in signatures:
+                word = signature.partition("(")[0]
+                thing = getattr(module, word)
+                self.assertEqual(written(word, thing), signature)
+                self.assertEqual(thing.__module__, module.__name__)
+
+    def test_generators(self):
+        for name, words in (("expressions", ["parts_of"]), ("reading", ["objects_of"])):
+            for word in words:
+                self.assertTrue(inspect.isgeneratorfunction(getattr(importlib.import_module("lateforms." + name), word)))
+
+    def test_classes(self):
+        for name, classes in CLASSES.items():
+            module = importlib.import_module("lateforms." + name)
+            for signature, methods in classes.items():
+                word = signature.partition("(")[0]
+                shape = getattr(module, word)
+                self.assertEqual(written(word, shape), signature)
+                self.assertEqual(shape.__module__, module.__name__)
+                for method in methods:
+                    known = vars(shape)[method.partition("(")[0]]
+                    is_static = isinstance(known, staticmethod)
+                    self.assertEqual(is_static, "self" not in method)
+                    known = known.__func__ if is_static else known
+                    self.assertEqual(written(method.partition("(")[0], known), method)
+
+    def test_methods_stand_in_each_class(self):
+        for shape in (Term, Condition):
+            for word in ("__init__", "__eq__", "__str__", "expression"):
+                self.assertIn(word, vars(shape))
+            self.assertIsInstance(vars(shape)["expression"], property)
+        for shape in RenamedWith.__mro__[:-1]:
+            for word in ("__init__", "entries", "form", "expressions", "row_of", "__eq__"):
+                self.assertIn(word, vars(shape))
+            for word in ("form", "expressions"):
+                self.assertIsInstance(vars(shape)[word], property)
+        for word in ("__add__", "__radd__", "__sub__", "__rsub__", "__mul__", "__rmul__", "__neg__"):
+            self.assertIn(word, vars(Term))
+
+
+if __name__ == "__main__":
+    unittest.main()
