@@ -10,7 +10,7 @@ from lateforms.changes import schema_after
 from lateforms.facts import decided, learned, starts
 from lateforms.kinds import is_integer
 from lateforms.prefixes import behind
-from lateforms.schemas import field_kind, is_link
+from lateforms.schemas import field_kind, is_link, own_field
 from lateforms.values import bounded
 
 
@@ -84,11 +84,6 @@ class Between:
         if link[0] == "if":
             return self.parted(link[2] if holds else link[3], cls, path, goal, facts)
         return goal[1] if holds else self.reached(link[1], cls, path, goal, facts)
-
-
-def own_field(field, kind):
-    """The expression of a field of a class that is not converted."""
-    return ("to", (field,)) if is_link(kind) else ("get", (field,), 0)
 
 
 def within(kind, expression):

@@ -1,14 +1,7 @@
 """Conversions: objects that make a row of a change from the form that a class has before."""
 
 from lateforms.sameness import same
-from lateforms.schemas import is_link
-
-
-def kept_entry(field, kind):
-    """The kind and the expression of a field that is kept."""
-    if is_link(kind):
-        return kind, ("to", (field,))
-    return kind, ("get", (field,), 0)
+from lateforms.schemas import own_field
 
 
 def form_in(entries):
@@ -41,7 +34,7 @@ class Kept:
 
     def entries(self):
         """The kind and the expression of each new field."""
-        return {field: kept_entry(field, kind) for field, kind in self._before}
+        return {field: (kind, own_field(field, kind)) for field, kind in self._before}
 
     @property
     def form(self):

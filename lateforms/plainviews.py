@@ -22,6 +22,10 @@ class PlainView:
         if not is_integer(number) or number not in self._classes:
             raise UnknownObject(number)
 
+    def class_of(self, number):
+        """The class of an object."""
+        return self._classes[number]
+
     def members(self, cls):
         """The numbers of the objects of a class, ascending."""
         return [number for number in self._classes if self._classes[number] == cls]

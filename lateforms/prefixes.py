@@ -1,15 +1,5 @@
 """Putting expressions without sums behind paths of links."""
 
-from lateforms.expressions import parts_of
-
-
-def first_sum(expression):
-    """The place of the first sum in an expression or a condition, or None."""
-    for place, part in parts_of(expression):
-        if isinstance(part, tuple) and part[0] == "sum":
-            return place
-    return None
-
 
 def behind(part, path):
     """A part without sums as it is read at the end of the path."""

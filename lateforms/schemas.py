@@ -45,3 +45,8 @@ def is_link(kind):
 def is_number_field(kind):
     """Whether this is the kind of a number field; it may be None."""
     return isinstance(kind, tuple)
+
+
+def own_field(field, kind):
+    """The expression that is the field itself."""
+    return ("to", (field,)) if is_link(kind) else ("get", (field,), 0)

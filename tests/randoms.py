@@ -139,3 +139,20 @@ def random_change(rng, schema, size=9, sums=True):
                 for _, kind in form
             )))
     return tuple(rows)
+
+
+def twisted(rng, part):
+    """An expression that is often, not always, the same as the given one."""
+    if not isinstance(part, tuple) or part[0] in ("get", "to", "none", "self") or rng.random() < 0.2:
+        return part
+    word, *inner = part
+    inner = [twisted(rng, thing) for thing in inner]
+    if word in ("+", "*", "least", "most", "=") and rng.random() < 0.6:
+        inner = inner[::-1]
+    if word == "if" and rng.random() < 0.6:
+        inner = [("not", inner[0]), inner[2], inner[1]]
+    if word == "-" and rng.random() < 0.5:
+        return ("+", inner[0], ("*", -1, inner[1]))
+    if word == "<" and rng.random() < 0.5:
+        return ("not", ("<", inner[1], ("+", inner[0], rng.choice((0, 1, 1)))))
+    return (word, *inner)

@@ -22,6 +22,14 @@ FUNCTIONS = {
     "conversions": ("change_of(**rows)",),
     "joining": ("prefixed(expression, *path)", "joined(schema, change, other)"),
     "changereads": ("read_fields(schema, change)", "unread_fields(schema, change)"),
+    "changetexts": ("change_text(change)",),
+    "changereadings": ("read_change(text, *, row=0, field=0)",),
+    "trees": ("tree_of(schema, cls, kind, expression)", "outcomes(schema, cls, kind, expression)", "leaves_of(thing)"),
+    "unfolding": ("unfolded(plain, number, depth)",),
+    "comparing": ("same_expressions(schema, cls, kind, expression, other)", "same_changes(schema, change, other)",
+                  "changes_nothing(schema, change)", "difference(schema, change, other)",
+                  "commute(schema, change, other)"),
+    "samechecker": ("lets_same(schema, change, other, thing)",),
 }
 
 CLASSES = {
@@ -55,7 +63,7 @@ class TestInterface(unittest.TestCase):
                 self.assertEqual(thing.__module__, module.__name__)
 
     def test_generators(self):
-        for name, words in (("expressions", ["parts_of"]), ("reading", ["objects_of"])):
+        for name, words in (("expressions", ["parts_of"]), ("reading", ["objects_of"]), ("trees", ["leaves_of"])):
             for word in words:
                 self.assertTrue(inspect.isgeneratorfunction(getattr(importlib.import_module("lateforms." + name), word)))
 
