@@ -30,6 +30,16 @@ FUNCTIONS = {
                   "changes_nothing(schema, change)", "difference(schema, change, other)",
                   "commute(schema, change, other)"),
     "samechecker": ("lets_same(schema, change, other, thing)",),
+    "samepapers": ("same_paper(schema, change, other)",),
+    "differencechecker": ("lets_difference(schema, change, other, thing)",),
+    "latecells": ("fresh_late(schema)", "schema_at(late, version)", "cells_of(late)", "cell_value(late, cell)",
+                  "read_cells(late, cell)", "asked(late)", "needed(late)", "plain_store(late)", "room(late)"),
+    "latechecker": ("lets_late(thing)",),
+    "latesteps": ("late_made(late, cls, *values)", "late_written(late, number, field, value)", "late_dropped(late, number)",
+                  "late_changed(late, change)", "late_pinned(late)", "late_released(late, version)",
+                  "converted(late, *numbers)", "forgotten(late)"),
+    "tellings": ("told_paper(late, cell)",),
+    "tellchecker": ("lets_told(late, cell, thing)",),
 }
 
 CLASSES = {
@@ -63,7 +73,8 @@ class TestInterface(unittest.TestCase):
                 self.assertEqual(thing.__module__, module.__name__)
 
     def test_generators(self):
-        for name, words in (("expressions", ["parts_of"]), ("reading", ["objects_of"]), ("trees", ["leaves_of"])):
+        for name, words in (("expressions", ["parts_of"]), ("reading", ["objects_of"]), ("trees", ["leaves_of"]),
+                            ("latecells", ["cells_of"])):
             for word in words:
                 self.assertTrue(inspect.isgeneratorfunction(getattr(importlib.import_module("lateforms." + name), word)))
 

@@ -194,7 +194,8 @@ class TestLanguage(unittest.TestCase):
             parents = {child: node for node in ast.walk(tree) for child in ast.iter_child_nodes(node)}
             for node in ast.walk(tree):
                 if isinstance(node, ast.Call) and isinstance(node.func, ast.Name):
-                    if node.func.id in ("zip", "enumerate", "range", "reversed", "map", "parts_of", "objects_of", "leaves_of"):
+                    if node.func.id in ("zip", "enumerate", "range", "reversed", "map", "parts_of", "objects_of", "leaves_of",
+                                        "cells_of"):
                         above = parents[node]
                         fine = isinstance(above, (ast.For, ast.comprehension)) and above.iter is node
                         fine = fine or isinstance(above, ast.Call) and getattr(above.func, "id", "") in ("list", "tuple")
