@@ -56,6 +56,11 @@ class Frame:
         """The cells of an object in a version in which it is there, ascending."""
         return [(number, moment, field) for field, _ in self.form_in_moment(number, moment)]
 
+    def cells_in_moment(self, moment):
+        """The cells of a version, ascending."""
+        there = [number for number in range(len(self._rows)) if self.is_there(number, moment)]
+        return [cell for number in there for cell in self.cells_in(number, moment)]
+
     def cells_of_object(self, number):
         """The cells of an object, ascending."""
         _, born, end, _, _ = self._rows[number]

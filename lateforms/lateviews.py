@@ -1,4 +1,4 @@
-"""Computing the cells of a late store, each once."""
+"""Computing the cells of a late store, version by version."""
 
 from lateforms.errors import GoneCell
 from lateforms.frames import GONE
@@ -29,34 +29,33 @@ class Moment:
 
 
 class LateView:
-    """The cells of a late store, with all that was computed of them."""
+    """All cells of a late store, with their values and their reads."""
 
     def __init__(self, frame):
         self._frame = frame
         self._values = {}
         self._reads = {}
+        # a computed cell reads cells of the version before: they are known when it is its turn
+        for moment in range(frame.newest() + 1):
+            for cell in frame.cells_in_moment(moment):
+                self.look_at(cell)
 
     def cell_told(self, cell):
         """The value of a cell; GoneCell if it is gone, or reads such a one."""
-        self.look_at(cell)
         if cell not in self._values:
             raise GoneCell(cell)
         return self._values[cell]
 
     def cell_reads(self, cell):
         """What a cell reads where it is computed; nothing behind the first cell that is gone or cannot be computed."""
-        self.look_at(cell)
         return self._reads[cell]
 
     def can_tell(self, cell):
         """Whether a cell is neither gone nor reads such a one."""
-        self.look_at(cell)
         return cell in self._values
 
     def look_at(self, cell):
         """Find out the value of a cell, if it has one, and its reads."""
-        if cell in self._reads:
-            return
         if self._frame.is_computed(cell):
             self.compute(cell)
             return

@@ -147,6 +147,12 @@ class TestCells(Case):
         late = (TWICE[0], TWICE[1], (("a", 0, None, 2, (8,)),), ((0, 1, "x", 4),), ())
         self.exactly([room(late), lets_late(late)], [1, (1, 2)])
 
+    def test_many_versions(self):
+        up = (("a", (("x", (0, 999)),), (("+", ("get", ("x",), 0), 1),)),)
+        late = ((("a", (("x", (0, 999)),)),), (up,) * 500, (("a", 0, None, 0, (3,)),), (), (250,))
+        self.exactly([cell_value(late, (0, 500, "x")), len(needed(late)), room(late), lets_late(late)], [503, 501, 1, (1, 1)])
+        self.exactly(converted(late, 0)[3], ((0, 250, "x", 253),))
+
     def test_plain_store(self):
         self.exactly(plain_store(LATE), (schema_at(LATE, 1), 3, (
             (0, "crate", (5, 7)), (1, "item", (0, 3)), (2, "item", (0, 4)))))
