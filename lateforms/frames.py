@@ -1,6 +1,7 @@
 """What a late store says without computing: versions, cells, and which of them are held."""
 
 from lateforms.changes import schema_after
+from lateforms.errors import GoneCell
 from lateforms.evaluation import evaluated
 from lateforms.kinds import is_name, is_number
 from lateforms.schemas import form_of, is_link, place_of
@@ -39,6 +40,14 @@ class Frame:
         _, born, end, _, _ = self._rows[number]
         return born <= moment and (end is None or moment < end)
 
+    def is_living(self, number):
+        """Whether an object was not dropped."""
+        return self._rows[number][2] is None
+
+    def is_pending(self, number):
+        """Whether any number is that of an object that lives and has its row in an older version."""
+        return number < len(self._rows) and self.is_living(number) and self._rows[number][3] < self.newest()
+
     def members_in(self, moment, cls):
         """The numbers of the objects of a class that have cells in the version, ascending."""
         return [n for n, row in enumerate(self._rows) if row[0] == cls and self.is_there(n, moment)]
@@ -69,9 +78,12 @@ class Frame:
 
     def asked_cells(self):
         """The cells of the newest version and of those in pins, ascending."""
-        latest = self.newest()
         cells = [cell for n in range(len(self._rows)) for cell in self.cells_of_object(n)]
-        return [cell for cell in cells if cell[1] == latest or cell[1] in self._pins]
+        return [cell for cell in cells if self.is_asked(cell)]
+
+    def is_asked(self, cell):
+        """Whether a cell is in the newest version or in one of those in pins."""
+        return cell[1] == self.newest() or cell[1] in self._pins
 
     def is_computed(self, cell):
         """Whether a cell is above the version of its row."""
@@ -104,6 +116,12 @@ class Frame:
         if is_link(kind) and value is not None and not self.is_there(value, moment):
             return None
         return value
+
+
+def require_cell(late, thing):
+    """Raise GoneCell if any value is not a cell of the late store."""
+    if not Frame(late).has_cell(thing):
+        raise GoneCell(thing)
 
 
 def is_cell_shape(thing):

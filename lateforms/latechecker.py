@@ -3,11 +3,11 @@
 from lateforms.changes import is_change
 from lateforms.errors import InvalidPaper
 from lateforms.frames import GONE, Frame, is_cell_shape
-from lateforms.kinds import is_integer, is_name, is_number, is_schema
+from lateforms.kinds import is_name, is_number, is_schema
 from lateforms.latecells import schema_at
 from lateforms.lateviews import LateView
 from lateforms.schemas import field_kind, form_of, is_link
-from lateforms.values import in_range
+from lateforms.values import in_range, is_value
 
 
 def lets_late(thing):
@@ -53,14 +53,14 @@ def is_row(row):
 
 def is_row_value(value):
     """Whether any value is an integer, None or "gone"."""
-    return value is None or is_integer(value) or isinstance(value, str) and value == GONE
+    return is_value(value) or isinstance(value, str) and value == GONE
 
 
 def is_entry(entry):
     """Whether any value is (number, number, name, integer or None)."""
     if not isinstance(entry, tuple) or len(entry) != 4:
         return False
-    return is_cell_shape(entry[:3]) and (entry[3] is None or is_integer(entry[3]))
+    return is_cell_shape(entry[:3]) and is_value(entry[3])
 
 
 def check_row(frame, rows, n):

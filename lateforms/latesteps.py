@@ -21,11 +21,10 @@ def late_made(late, cls, *values):
 def late_written(late, number, field, value):
     """The late store after an object is converted, if it is pending, and a field of it gets the value."""
     written(plain_store(late), number, field, value)
-    schema, changes, rows, kept, pins = converted(late, number)
-    cls, born, end, current, values = rows[number]
-    j = place_of(form_of(schema_at(late, current), cls), field)
-    row = (cls, born, end, current, values[:j] + (value,) + values[j + 1:])
-    return schema, changes, rows[:number] + (row,) + rows[number + 1:], kept, pins
+    after = converted(late, number)
+    cls, _, _, current, values = after[2][number]
+    j = place_of(form_of(schema_at(after, current), cls), field)
+    return with_row(after, number, current, values[:j] + (value,) + values[j + 1:])
 
 
 def late_dropped(late, number):
@@ -79,33 +78,36 @@ def lives(late, number):
     return is_integer(number) and 0 <= number < len(late[2]) and late[2][number][2] is None
 
 
+def pending_numbers(late):
+    """The numbers of the pending objects, ascending."""
+    return [number for number, row in enumerate(late[2]) if row[2] is None and row[3] < len(late[1])]
+
+
 def converted_one(late, number):
     """The late store in which a pending object is converted."""
-    after = with_row_now(late, number)
-    more = entries_below(late, number)
+    frame = Frame(late)
+    view = LateView(frame)
+    latest = frame.newest()
+    values = tuple([view.cell_told(cell) for cell in frame.cells_in(number, latest)])
+    after = with_row(late, number, latest, values)
+    more = entries_below(late, frame, view, number)
     # what is needed shows when all is kept, as the values are known then
     due = needed(with_entries(after, more))
     return with_entries(after, [entry for entry in more if entry[:3] in due])
 
 
-def entries_below(late, number):
+def entries_below(late, frame, view, number):
     """The entries that kept does not have of the cells of an object below the newest version, if they can be told."""
-    frame = Frame(late)
-    view = LateView(frame)
     known = [entry[:3] for entry in late[3]]
     cells = [cell for cell in frame.cells_of_object(number) if cell[1] < frame.newest() and cell not in known]
     return [(*cell, view.cell_told(cell)) for cell in cells if view.can_tell(cell)]
 
 
-def with_row_now(late, number):
-    """The late store with an object's row in the newest version."""
+def with_row(late, number, current, values):
+    """The late store with an object's row in a version, with these values."""
     schema, changes, rows, kept, pins = late
-    frame = Frame(late)
-    view = LateView(frame)
-    latest = frame.newest()
     cls, born, end, _, _ = rows[number]
-    values = tuple([view.cell_told(cell) for cell in frame.cells_in(number, latest)])
-    row = (cls, born, end, latest, values)
+    row = (cls, born, end, current, values)
     return schema, changes, rows[:number] + (row,) + rows[number + 1:], kept, pins
 
 

@@ -1,9 +1,9 @@
 """The checker of papers that tell a cell."""
 
-from lateforms.errors import GoneCell, InvalidPaper
-from lateforms.frames import GONE, Frame, is_cell_shape
-from lateforms.kinds import is_integer
+from lateforms.errors import InvalidPaper
+from lateforms.frames import GONE, Frame, is_cell_shape, require_cell
 from lateforms.lateviews import Moment
+from lateforms.values import is_value
 
 
 class Telling:
@@ -22,11 +22,10 @@ class Telling:
 
 def lets_told(late, cell, thing):
     """The value of a cell that a told paper tells; InvalidPaper for any other value."""
-    frame = Frame(late)
-    if not frame.has_cell(cell):
-        raise GoneCell(cell)
+    require_cell(late, cell)
     if not has_shape(thing):
         raise InvalidPaper("shape", -1)
+    frame = Frame(late)
     values = {}
     for k, (other, value) in enumerate(thing):
         check_row(frame, values, k, other, value)
@@ -43,9 +42,7 @@ def has_shape(thing):
 
 def is_row(row):
     """Whether any value is ((number, number, name), integer or None)."""
-    if not isinstance(row, tuple) or len(row) != 2 or not is_cell_shape(row[0]):
-        return False
-    return row[1] is None or is_integer(row[1])
+    return isinstance(row, tuple) and len(row) == 2 and is_cell_shape(row[0]) and is_value(row[1])
 
 
 def check_row(frame, values, k, cell, value):

@@ -9,6 +9,16 @@ def in_range(kind, value):
     return is_integer(value) and kind[0] <= value <= kind[1]
 
 
+def is_value(thing):
+    """Whether any value can stand in some field: None or an integer."""
+    return thing is None or is_integer(thing)
+
+
+def are_values(thing):
+    """Whether any value is a tuple of integers and Nones."""
+    return isinstance(thing, tuple) and all([is_value(value) for value in thing])
+
+
 def suits(kind, value, classes):
     """Whether any value can stand in a field of the kind; classes has the class of each object."""
     if not is_link(kind):

@@ -29,6 +29,10 @@ CHAIN = ((("a", (("n", "a"), ("x", (0, 9)))),), (
     ("a", 0, None, 0, (1, 3)), ("a", 0, 1, 0, (None, 4)), ("a", 0, 2, 1, (0, 8)), ("a", 2, None, 2, (0, 6)),
 ), (), (1,))
 
+# two objects read one another in turn: the x of 0 in version 2 is that of 1 in version 1, and so on
+HOP = (("a", (("n", "a"), ("x", (0, 9))), (("to", ("n",)), ("get", ("n", "x"), 0))),)
+HOPS = (CHAIN[0], (HOP, HOP), (("a", 0, None, 0, (1, 3)), ("a", 0, None, 0, (0, 4))), (), ())
+
 
 class Run:
     """A late store, and the plain store of each version; the last one is that of now."""

@@ -40,6 +40,13 @@ FUNCTIONS = {
                   "converted(late, *numbers)", "forgotten(late)"),
     "tellings": ("told_paper(late, cell)",),
     "tellchecker": ("lets_told(late, cell, thing)",),
+    "chains": ("chain_to(late, cell)", "closed_set(late, cell)"),
+    "chainchecker": ("lets_chain(late, cell, thing)", "lets_closed(late, cell, thing)"),
+    "freeing": ("old_cells(late, cls, version, field)", "old_needed(late, cls, version, field)",
+                "to_free(late, cls, version, field)"),
+    "freepapers": ("free_paper(late, cls, version, field)",),
+    "freechecker": ("lets_free(late, cls, version, field, thing)",),
+    "stops": ("writes_of(late, number)", "stops_of(late, number)", "write_done(late, write)"),
 }
 
 CLASSES = {
@@ -74,7 +81,7 @@ class TestInterface(unittest.TestCase):
 
     def test_generators(self):
         for name, words in (("expressions", ["parts_of"]), ("reading", ["objects_of"]), ("trees", ["leaves_of"]),
-                            ("latecells", ["cells_of"])):
+                            ("latecells", ["cells_of"]), ("stops", ["stops_of"])):
             for word in words:
                 self.assertTrue(inspect.isgeneratorfunction(getattr(importlib.import_module("lateforms." + name), word)))
 

@@ -2,6 +2,7 @@
 
 import ast
 import builtins
+import importlib
 import pathlib
 import re
 import unittest
@@ -10,7 +11,7 @@ PACKAGE = pathlib.Path(__file__).parent.parent / "lateforms"
 FILES = sorted(PACKAGE.glob("*.py"))
 ALLOWED = set(
     "len range enumerate zip min max sum abs sorted reversed int str bool list tuple dict set isinstance ord repr"
-    " any all divmod iter next property staticmethod classmethod super map ValueError".split()
+    " any all divmod iter next property staticmethod classmethod super map ValueError TypeError".split()
 )
 METHODS = set(
     "append clear copy count endswith extend find get index insert isalnum isalpha isdigit islower isspace isupper"
@@ -28,7 +29,8 @@ WORDS = re.compile(
     r"|dataclass|overload|contextmanager"
 )
 DUNDERS = set(
-    "__init__ __eq__ __str__ __add__ __radd__ __sub__ __rsub__ __mul__ __rmul__ __neg__".split()
+    "__init__ __eq__ __str__ __add__ __radd__ __sub__ __rsub__ __mul__ __rmul__ __neg__"
+    " __call__ __contains__ __getitem__ __iter__ __len__ __ne__".split()
 )
 BAD_NODES = (
     ast.Global, ast.Nonlocal, ast.AsyncFunctionDef, ast.Await, ast.GeneratorExp, ast.SetComp, ast.Set, ast.NamedExpr,
@@ -96,7 +98,17 @@ class TestLanguage(unittest.TestCase):
                 else:
                     imports_done = True
                 if isinstance(node, ast.Assign):
-                    ast.literal_eval(node.value)
+                    self.check_value(tree, node)
+
+    def check_value(self, tree, node):
+        """A plain value, or a dict of functions that stand above."""
+        above = [row.name for row in tree.body if isinstance(row, ast.FunctionDef) and row.lineno < node.lineno]
+        if isinstance(node.value, ast.Dict) and all(isinstance(value, ast.Name) for value in node.value.values):
+            for key, value in zip(node.value.keys, node.value.values):
+                ast.literal_eval(key)
+                self.assertIn(value.id, above)
+        else:
+            ast.literal_eval(node.value)
 
     def bound(self, node):
         if isinstance(node, ast.Assign):
@@ -124,11 +136,13 @@ class TestLanguage(unittest.TestCase):
         for name, _, tree in self.each():
             imported = [alias.name for node in tree.body if isinstance(node, ast.ImportFrom) for alias in node.names]
             classes = [node.name for node in tree.body if isinstance(node, ast.ClassDef)]
+            methods = [row for node in tree.body if isinstance(node, ast.ClassDef) for row in node.body]
             for node in ast.walk(tree):
                 for given in names_in(node):
                     self.assertNotIn(given, dir(builtins), name)
                     self.assertNotIn(given, BARRED, name)
-                    self.assertNotIn(given, imported, name)
+                    if node not in methods:
+                        self.assertNotIn(given, imported, name)
                     if not isinstance(node, ast.ClassDef):
                         self.assertNotIn(given, classes)
                     if given.startswith("__"):
@@ -147,7 +161,8 @@ class TestLanguage(unittest.TestCase):
             for node in ast.walk(tree):
                 if isinstance(node, ast.FunctionDef):
                     for decorator in node.decorator_list:
-                        self.assertIn(decorator.id, ("property", "staticmethod"), name)
+                        allowed = ("property", "staticmethod", "classmethod", f"{node.name}.setter")
+                        self.assertIn(ast.unparse(decorator), allowed, name)
                 if isinstance(node, ast.ClassDef):
                     self.assertEqual(node.decorator_list, [])
 
@@ -159,9 +174,10 @@ class TestLanguage(unittest.TestCase):
                 if isinstance(node, ast.ClassDef):
                     for row in node.body:
                         if isinstance(row, ast.FunctionDef):
-                            marks = [mark.id for mark in row.decorator_list]
-                            kind = {"property": properties, "staticmethod": statics}.get("".join(marks), methods)
-                            kind.append(row.name)
+                            marks = "".join(ast.unparse(mark) for mark in row.decorator_list)
+                            kinds = {"property": properties, f"{row.name}.setter": properties,
+                                     "staticmethod": statics, "classmethod": statics}
+                            kinds.get(marks, methods).append(row.name)
                 if isinstance(node, ast.Attribute) and isinstance(node.ctx, ast.Store):
                     attributes.append(node.attr)
                 if isinstance(node, ast.FunctionDef):
@@ -180,6 +196,58 @@ class TestLanguage(unittest.TestCase):
         for word in generators:
             self.assertEqual(functions.count(word), 1)
 
+    def test_properties_and_operators_change_nothing(self):
+        """Nor do the functions of the package that they call by name; what they make by a call of a class is new."""
+        functions = {}
+        for name, _, tree in self.each():
+            for node in ast.walk(tree):
+                if isinstance(node, ast.FunctionDef):
+                    functions.setdefault(node.name, []).append((name, node))
+        waiting, done = [], []
+        for name, _, tree in self.each():
+            for node in ast.walk(tree):
+                if isinstance(node, ast.ClassDef):
+                    for row in node.body:
+                        if isinstance(row, ast.FunctionDef) and (
+                                any(ast.unparse(mark) == "property" for mark in row.decorator_list)
+                                or row.name.startswith("__") and row.name not in ("__init__", "__call__")):
+                            waiting.append((name, row))
+        while waiting:
+            name, node = waiting.pop()
+            done.append(node)
+            self.check_changes_nothing(name, node)
+            for inner in ast.walk(node):
+                if isinstance(inner, ast.Call):
+                    word = inner.func.id if isinstance(inner.func, ast.Name) else inner.func.attr
+                    waiting += [pair for pair in functions.get(word, []) if pair[1] not in done and pair not in waiting]
+
+    def check_changes_nothing(self, name, function):
+        own = [node.targets[0].id for node in ast.walk(function)
+               if isinstance(node, ast.Assign) and isinstance(node.targets[0], ast.Name) and (
+                   isinstance(node.value, (ast.List, ast.Dict, ast.ListComp))
+                   or isinstance(node.value, ast.Call) and ast.unparse(node.value.func) in ("list", "dict", "sorted"))]
+        for node in ast.walk(function):
+            where = (name, function.name, getattr(node, "lineno", 0))
+            self.assertNotIsInstance(node, (ast.AugAssign, ast.Delete, ast.Yield, ast.YieldFrom), where)
+            if isinstance(node, ast.Attribute):
+                self.assertIsInstance(node.ctx, ast.Load, where)
+            if isinstance(node, ast.Subscript) and isinstance(node.ctx, ast.Store):
+                self.assertIn(ast.unparse(node.value), own, where)
+            if isinstance(node, ast.Call) and isinstance(node.func, ast.Attribute):
+                if node.func.attr in ("append", "extend", "pop", "insert", "clear", "remove", "reverse", "setdefault", "update"):
+                    self.assertIn(ast.unparse(node.func.value), own, where)
+
+    def test_what_is_finished_at_last(self):
+        """In a finally stands nothing but assignments of names and attributes."""
+        for name, _, tree in self.each():
+            for node in ast.walk(tree):
+                if isinstance(node, ast.Try):
+                    for row in node.finalbody:
+                        self.assertIsInstance(row, ast.Assign)
+                        self.assertIsInstance(row.value, (ast.Name, ast.Attribute))
+                    for handler in node.handlers:
+                        self.assertIn(ast.unparse(handler.type), dir(importlib.import_module("lateforms.errors")), name)
+
     def test_methods_of_builtin_values(self):
         for name, _, tree in self.each():
             for node in ast.walk(tree):
@@ -189,13 +257,29 @@ class TestLanguage(unittest.TestCase):
                         self.assertTrue(word in METHODS or word in DUNDERS, (name, word))
                         self.assertEqual(node.keywords if word in METHODS else [], [])
 
+    def test_stars(self):
+        """Behind a star in a call stand only names, attributes and literals."""
+        for name, _, tree in self.each():
+            for node in ast.walk(tree):
+                if isinstance(node, ast.Call):
+                    for given in node.args:
+                        if isinstance(given, ast.Starred):
+                            self.assertIsInstance(given.value, (ast.Name, ast.Attribute, ast.List, ast.Tuple), (name, node.lineno))
+
+    def test_tables_of_functions(self):
+        """A function from a table gets a name before it is called."""
+        for name, _, tree in self.each():
+            for node in ast.walk(tree):
+                if isinstance(node, ast.Call):
+                    self.assertIsInstance(node.func, (ast.Name, ast.Attribute), (name, node.lineno))
+
     def test_views_are_iterated_at_once(self):
         for name, _, tree in self.each():
             parents = {child: node for node in ast.walk(tree) for child in ast.iter_child_nodes(node)}
             for node in ast.walk(tree):
                 if isinstance(node, ast.Call) and isinstance(node.func, ast.Name):
                     if node.func.id in ("zip", "enumerate", "range", "reversed", "map", "parts_of", "objects_of", "leaves_of",
-                                        "cells_of"):
+                                        "cells_of", "stops_of", "walk"):
                         above = parents[node]
                         fine = isinstance(above, (ast.For, ast.comprehension)) and above.iter is node
                         fine = fine or isinstance(above, ast.Call) and getattr(above.func, "id", "") in ("list", "tuple")
