@@ -8,11 +8,14 @@ from lateforms.words import Words, kind_in
 
 def read_change(text, *, row=0, field=0):
     """The change that a text writes."""
-    words = Words(text, row, field)
+    return next_change(Words(text, row, field))
+
+
+def next_change(words):
+    """The change that comes up; nothing can stand behind it."""
     if words.ahead() == "-":
         words.advance()
-        if words.ahead() is not None:
-            words.refuse()
+        words.finish()
         return ()
     rows = [next_row(words, "")]
     while words.ahead() is not None:

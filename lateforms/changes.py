@@ -70,7 +70,7 @@ def check_fit(schema, rows, k):
 
 def schema_after(schema, change):
     """The schema after a change of it."""
-    forms = {cls: form for cls, form in schema}
+    forms = dict(schema)
     for cls, form, _ in change:
         forms[cls] = form
     return tuple([(cls, forms[cls]) for cls in sorted(forms)])

@@ -19,6 +19,11 @@ def schema_at(late, version):
     return schema
 
 
+def newest_schema(late):
+    """The schema of the newest version."""
+    return schema_at(late, len(late[1]))
+
+
 def cells_of(late):
     """All cells, ascending."""
     frame = Frame(late)

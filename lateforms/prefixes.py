@@ -10,5 +10,8 @@ def behind(part, path):
         return ("to", path)
     if word in ("get", "none", "to"):
         return (word, path + part[1]) + part[2:]
-    inner = [behind(thing, path) for thing in part[1:]]
+    # a loop takes less of the stack than a comprehension, and joined expressions can be deep
+    inner = []
+    for thing in part[1:]:
+        inner.append(behind(thing, path))
     return (word, *inner)

@@ -12,8 +12,7 @@ def read_expression(text, due, *, row=0, field=0):
     """The expression or condition that a text writes where a number, a link or a condition is due."""
     words = Words(text, row, field)
     expression = next_part(words, due, 0)
-    if words.ahead() is not None:
-        words.refuse()
+    words.finish()
     return expression
 
 

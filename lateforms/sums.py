@@ -25,3 +25,9 @@ def refuse_sums(change, other):
         for k, (_, _, expressions) in enumerate(rows):
             for f, expression in enumerate(expressions or ()):
                 refuse_sum(expression, (n, k, f))
+
+
+def has_sum(change):
+    """Whether there is a sum in a change."""
+    parts = [part for _, _, expressions in change for part in expressions or ()]
+    return any([first_sum(part) is not None for part in parts])

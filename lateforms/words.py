@@ -24,6 +24,11 @@ class Words:
         """Go on to the next word."""
         self._done = self._done + 1
 
+    def finish(self):
+        """Refuse a word that comes up behind what is complete."""
+        if self.ahead() is not None:
+            self.refuse()
+
     def refuse(self):
         """Raise the error that the word that comes up cannot stand there, or is missing."""
         raise InvalidText(self._row, self._field + self._done)

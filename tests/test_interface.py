@@ -3,6 +3,7 @@ import inspect
 import unittest
 
 from lateforms.conversions import RenamedWith
+from lateforms.stores import Store
 from lateforms.terms import Condition, Term
 
 FUNCTIONS = {
@@ -47,6 +48,11 @@ FUNCTIONS = {
     "freepapers": ("free_paper(late, cls, version, field)",),
     "freechecker": ("lets_free(late, cls, version, field, thing)",),
     "stops": ("writes_of(late, number)", "stops_of(late, number)", "write_done(late, write)"),
+    "closing": ("between(late)", "closed_up(late, version)"),
+    "storesteps": ("is_step(thing)",),
+    "replaying": ("is_log(thing)", "replayed(schema, log)"),
+    "steprows": ("step_row(step)", "schema_row(schema)", "log_rows(schema, log)"),
+    "rowreadings": ("read_step(text, *, row=0)", "read_schema(text, *, row=0)", "read_log(rows)"),
 }
 
 CLASSES = {
@@ -60,6 +66,16 @@ CLASSES = {
         "Kept(form)": (), "Renamed(form, *, old, new)": (), "Without(form, *, field)": (),
         "With(form, *, field, kind, expression)": (), "RenamedWith(form, *, old, new, field, kind, expression)": (),
     },
+    "stores": {
+        "Store(schema)": (
+            "read(cls, text)", "plain(self)", "pending(self)", "is_swept(self)", "room(self)", "needed(self)", "object_of(self, number)",
+            "walk(self)", "value_of(self, number, field)", "was(self, name, number, field)", "go(self, step)", "make(self, cls, *values)",
+            "write(self, number, field, value)", "drop(self, number)", "change(self, thing)", "keep(self, name)", "release(self, name)",
+            "touch(self, *numbers)", "sweep(self, most=1)", "close_up(self)", "set_pace(self, value)", "barred(self, step)",
+            "do_all(self, *steps, keep=False)", "tried(self, *steps)", "undo(self)", "log(self)", "counts(self)", "table(self)",
+        ),
+    },
+    "desk": {"Desk(schema)": ("say(self, text)", "counts(self)")},
 }
 
 
@@ -95,9 +111,9 @@ class TestInterface(unittest.TestCase):
                 self.assertEqual(shape.__module__, module.__name__)
                 for method in methods:
                     known = vars(shape)[method.partition("(")[0]]
-                    is_static = isinstance(known, staticmethod)
-                    self.assertEqual(is_static, "self" not in method)
-                    known = known.__func__ if is_static else known
+                    is_plain = not isinstance(known, (staticmethod, classmethod))
+                    self.assertEqual([is_plain, isinstance(known, classmethod)], ["self" in method, "cls, text" in method])
+                    known = known if is_plain else known.__func__
                     self.assertEqual(written(method.partition("(")[0], known), method)
 
     def test_methods_stand_in_each_class(self):
@@ -110,6 +126,12 @@ class TestInterface(unittest.TestCase):
                 self.assertIn(word, vars(shape))
             for word in ("form", "expressions"):
                 self.assertIsInstance(vars(shape)[word], property)
+        for word in ("__init__", "__getitem__", "__contains__", "__len__", "__eq__", "__ne__", "__str__", "__call__"):
+            self.assertIn(word, vars(Store))
+        for word in ("first_schema", "schema", "version", "late", "snapshots", "pace"):
+            self.assertIsInstance(vars(Store)[word], property)
+            self.assertEqual(vars(Store)[word].fset is None, word != "pace")
+        self.assertEqual([vars(Store)["OBJECTS"], vars(Store)["CHANGES"]], [8, 5])
         for word in ("__add__", "__radd__", "__sub__", "__rsub__", "__mul__", "__rmul__", "__neg__"):
             self.assertIn(word, vars(Term))
 
